@@ -1,0 +1,1 @@
+"""Servedall: which houses to open, and who pays for them."""

@@ -1,0 +1,74 @@
+"""Small helpers that all modules share: what single values are, and how they are kept."""
+
+
+def is_int(value):
+    """Whether any value is an integer."""
+    return isinstance(value, int) and not isinstance(value, bool)
+
+
+def is_number(value):
+    """Whether any value is an integer from 0 on."""
+    return is_int(value) and value >= 0
+
+
+def is_name(value):
+    """Whether any value is a string of 1 to 8 letters from a to z."""
+    if not isinstance(value, str) or len(value) > 8:
+        return False
+    return value.isascii() and value.isalpha() and value.islower()
+
+
+def is_tuple_of(value, many):
+    """Whether any value is a tuple of so many things."""
+    return isinstance(value, tuple) and len(value) == many
+
+
+def is_pair_of_tuples(value):
+    """Whether any value is a tuple of two tuples."""
+    return is_tuple_of(value, 2) and isinstance(value[0], tuple) and isinstance(value[1], tuple)
+
+
+def kept(value):
+    """Any value, with lists copied, so that a later change of one does not show."""
+    if isinstance(value, list):
+        return [kept(thing) for thing in value]
+    if isinstance(value, tuple):
+        return tuple([kept(thing) for thing in value])
+    return value
+
+
+def ascending(things):
+    """The ascending tuple of names, or of tuples of names, each once."""
+    return tuple(sorted(set(things)))
+
+
+def name_fault(things):
+    """The first place of what is no name or not above the one ahead, or None."""
+    for at, thing in enumerate(things):
+        if not is_name(thing) or at > 0 and thing <= things[at - 1]:
+            return at
+    return None
+
+
+def among_fault(things, names):
+    """The first place of what is none of the names or not above the one ahead, or None."""
+    for at, thing in enumerate(things):
+        if thing not in names or at > 0 and thing <= things[at - 1]:
+            return at
+    return None
+
+
+def unlike_fault(things, names):
+    """The first place of what is none of the names or stands ahead already, or None."""
+    for at, thing in enumerate(things):
+        if thing not in names or thing in things[:at]:
+            return at
+    return None
+
+
+def number_fault(things):
+    """The first place of what is no number, or None."""
+    for at, thing in enumerate(things):
+        if not is_number(thing):
+            return at
+    return None
