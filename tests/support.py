@@ -7,7 +7,7 @@ from fractions import Fraction
 
 from servedall.errors import InvalidFraction, InvalidText, NoName, ServeError
 from servedall.lines import Lines
-from servedall.roads import Roads
+from servedall.roads import Roads, roads_of
 from servedall.tables import Table, table_of
 
 DEEP = ()
@@ -133,3 +133,15 @@ def check_call(test, call, **named):
     for name, value in named.items():
         test.assertEqual(value, before[name])
     return result
+
+
+def random_roads(dice, many, most=5):
+    """Roads of so many places, in which each place but the first is joined to some other one."""
+    places = dice.sample([a + b for a in "abcd" for b in "efgh"], many)
+    lines = [(places[at], places[dice.randrange(at)], dice.randint(1, most)) for at in range(1, many)]
+    return roads_of(places, lines)
+
+
+def random_seats(dice, roads, names, most=6):
+    """A seat on the roads for each name."""
+    return tuple((name, dice.choice(roads.places), dice.randint(0, most)) for name in names)
