@@ -69,7 +69,8 @@ def _lines_of(case):
 
 def _house_between(case, lines):
     """Of the houses whose share is not whole, one with the greatest share."""
-    # If all shares were whole they would open houses that serve all, and the payments were enough.
+    # If all shares were whole, they would be those of an opening, and the payments were enough.
+    # A share that is not whole is less than 1: so all whom this house serves have another one.
     shares = dict(zip(case.table.houses, shares_told(case.table, lines)))
     parts = [house for house in case.table.houses if shares[house][1] != 1]
     most = greatest_of([shares[house] for house in parts])
@@ -77,9 +78,6 @@ def _house_between(case, lines):
 
 
 def _tree_of(case):
-    lost = unserved(case.table)
-    if lost:
-        return ("lost", lost[0])
     lines = _lines_of(case)
     if ceiling_of(lines.last[-1]) >= case.wanted:
         return ("enough", payments_told(case.table, lines))

@@ -72,6 +72,6 @@ def all_corners(table):
     all_bounds = _bounds(table)
     for bounds in combinations(all_bounds, len(table.houses)):
         shares = _shares_at(bounds, len(table.houses))
-        if shares is not None and is_shares(table, shares):
+        if is_shares(table, shares):
             found[shares] = True
     return tuple(sorted(found))

@@ -28,9 +28,9 @@ def first_lines(table, prices):
         rest = [ONE if other == house else ZERO for other in table.houses]
         rows.append((*paid, *rest, whole(price)))
     many = len(table.people)
-    basis = range(many, many + len(table.houses))
+    basis = tuple(range(many, many + len(table.houses)))
     last = [ONE for _ in table.people] + [ZERO for _ in table.houses] + [ZERO]
-    return Lines(tuple(basis), tuple(rows), tuple(last))
+    return Lines(basis, tuple(rows), tuple(last))
 
 
 def _less_often(row, often, other):

@@ -122,5 +122,5 @@ def branches(roads, place):
     ways = _behind(roads, place)
     found = []
     for beside, _ in _joined_to(roads, place):
-        found.append((beside, tuple([other for other in roads.places if beside in ways[other][1][1:2]])))
+        found.append((beside, tuple([other for other in roads.places if beside in ways[other][1]])))
     return tuple(found)

@@ -67,6 +67,11 @@ class WorthTest(unittest.TestCase):
             if right:
                 self.assertEqual(f.over(one, other), pair_of(left / right))
 
+    def test_equal_ones(self):
+        for one in some_fractions(4, 30):
+            self.assertEqual((f.compared(one=one, other=one), f.minus(one, one)), (0, (0, 1)))
+            self.assertIs(type(f.compared(one, one)), int)
+
     def test_over_nothing(self):
         self.assertEqual(raised(f.over, (1, 2), (0, 1)), (InvalidSize, "bottom"))
         self.assertEqual(raised(f.over, one=(0, 1), other=(0, 1)), (InvalidSize, "bottom"))

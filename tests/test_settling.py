@@ -58,6 +58,9 @@ class StepTest(unittest.TestCase):
     def test_alike_right_sides(self):
         lines = first_lines(RING, (1, 1, 1))
         self.assertEqual(s.leaving(lines, 0), leaving_by_hand(lines, 0))
+        one, none = (1, 1), (0, 1)
+        alike = Lines((0, 1), ((one, one, one, one), (one, one, none, one)), (one, none, none, none))
+        self.assertEqual(s.leaving(alike, 0), 1)
         # What is left of the first house counts first: the row without it is the lesser one.
         self.assertEqual(s.leaving(lines, 0), 1)
 

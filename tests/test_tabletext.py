@@ -50,7 +50,7 @@ class TextTest(unittest.TestCase):
                          ("houses x\n", 1), ("houses x\nann x\n", 2), ("houses x\nann y", 1), ("houses x\nann x x", 1),
                          ("houses x y\nann y x", 1), ("houses x\nann  x", 1), ("houses x\nann x ", 1),
                          ("houses x\nann\nann", 2), ("houses x\nbob\nann x", 2), ("houses x\n\nann", 1),
-                         ("houses x\nA", 1), ("houses x\r\nann", 0), ("houses x\nann x\r", 1), ("x\nann", 0),
+                         ("houses x\nA", 1), ("houses x\nA x", 1), ("houses x\n1 x", 1), ("houses x\r\nann", 0), ("houses x\nann x\r", 1), ("x\nann", 0),
                          ("houses x\nzzzzzzzz\nzzzzzzzz", 2), ("houses\nann x\nbob", 1), ("houses\n x", 1)):
             self.assertEqual(raised(read_table, text), (InvalidText, at), text)
 

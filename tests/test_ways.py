@@ -114,6 +114,8 @@ class PaymentsTest(unittest.TestCase):
             self.assertIs(w.check_ways(TRIPS, PRICES, (opening, (2, 2))), False)
         for value in (None, [(0, 1), (2, 2)], ((0, 1),), ((0, 1), (2, 2), ()), ((2, 2), (0, 1)), ()):
             self.assertIs(w.check_ways(TRIPS, PRICES, value), False)
+        self.assertIs(w.check_ways(((0, 0),), (0, 0), ((0, 0), (0,))), False)
+        self.assertIs(w.check_ways(((0, 0),), (0, 0), ((1, 0), (0,))), False)
         # The sum is right, but a house takes more than its price.
         self.assertIs(w.check_ways(TRIPS, PRICES, ((0, 1), (3, 1))), False)
 
