@@ -2,7 +2,8 @@
 
 from itertools import combinations
 
-from servedall.fractions import ONE, ZERO, minus, over, times
+from servedall.fractions import ONE, ZERO, over
+from servedall.lines import less_often
 from servedall.shares import is_shares, supplies
 from servedall.tables import grid
 
@@ -15,23 +16,17 @@ def _place_of(row):
     return None
 
 
-def _cleared(row, place, by):
-    """A row less another one, which has 1 at a place, as often as makes the row 0 there."""
-    often = row[place]
-    return [minus(one, times(often, two)) for one, two in zip(row, by)]
-
-
 def _solved(rows):
     """Rows that mean the same: pairs (place, row), each row with 1 at its place, the others with 0."""
     solved = []
     for row in rows:
         for place, by in solved:
-            row = _cleared(row, place, by)
+            row = less_often(row, row[place], by)
         place = _place_of(row)
         if place is None:
             continue
-        new = [over(one, row[place]) for one in row]
-        solved = [(at, _cleared(by, place, new)) for at, by in solved] + [(place, new)]
+        new = tuple([over(one, row[place]) for one in row])
+        solved = [(at, less_often(by, by[place], new)) for at, by in solved] + [(place, new)]
     return sorted(solved)
 
 

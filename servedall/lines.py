@@ -33,7 +33,7 @@ def first_lines(table, prices):
     return Lines(basis, tuple(rows), tuple(last))
 
 
-def _less_often(row, often, other):
+def less_often(row, often, other):
     """A row less another one taken so often."""
     if often == ZERO:
         return tuple(row)
@@ -43,7 +43,7 @@ def _less_often(row, often, other):
 def _gains_on(last, row, name):
     """The last row behind a turn: its last fraction rises where gains are taken away."""
     gain = last[name]
-    return (*_less_often(last[:-1], gain, row[:-1]), plus(last[-1], times(gain, row[-1])))
+    return (*less_often(last[:-1], gain, row[:-1]), plus(last[-1], times(gain, row[-1])))
 
 
 def turned_on(lines, at, name):
@@ -52,7 +52,7 @@ def turned_on(lines, at, name):
     if divisor == ZERO:
         raise Refused("zero")
     turning = tuple([one if one == ZERO else over(one, divisor) for one in lines.rows[at]])
-    rows = [turning if place == at else _less_often(row, row[name], turning)
+    rows = [turning if place == at else less_often(row, row[name], turning)
             for place, row in enumerate(lines.rows)]
     basis = (*lines.basis[:at], name, *lines.basis[at + 1:])
     return Lines(basis, tuple(rows), _gains_on(lines.last, turning, name))
