@@ -1,13 +1,10 @@
 """Tables whose least openings cost much more than their least shares."""
 
+from servedall.changing import least_cost
 from servedall.errors import InvalidSize, Refused
 from servedall.fractions import ZERO, over, whole
-from servedall.settling import least_shares
-from servedall.prices import sum_of
 from servedall.tables import table_of
-from servedall.values import is_int
-
-_LETTERS = "abcdefghijklmnopqrstuvwxyz"
+from servedall.values import LETTERS, is_int
 
 
 def _need_size(size, low, high):
@@ -18,7 +15,7 @@ def _need_size(size, low, high):
 def ring_table(size):
     """A ring of so many people and houses, each person and house called by a letter."""
     _need_size(size, 3, 16)
-    names = _LETTERS[:size]
+    names = LETTERS[:size]
     pairs = [(name, name) for name in names] + [(name, names[at - 1]) for at, name in enumerate(names)]
     return table_of(list(names), list(names), pairs)
 
@@ -35,7 +32,7 @@ def _is_odd(number):
 def dot_table(size):
     """People and houses for all numbers of so many binary places but 0; serving goes by common places."""
     _need_size(size, 1, 4)
-    names = _LETTERS[:(1 << size) - 1]
+    names = LETTERS[:(1 << size) - 1]
     pairs = [(person, house) for i, person in enumerate(names) for j, house in enumerate(names)
              if _is_odd((i + 1) & (j + 1))]
     return table_of(list(names), list(names), pairs)
@@ -43,8 +40,7 @@ def dot_table(size):
 
 def distance(table, prices, price):
     """A price over the least cost of shares."""
-    # Shares cost what the payments that they meet sum to.
-    cost = sum_of(least_shares(table, prices)[1])
+    cost = least_cost(table, prices)
     if cost == ZERO:
         raise Refused("free")
     return over(whole(price), cost)

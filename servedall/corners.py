@@ -16,7 +16,7 @@ def _place_of(row):
     return None
 
 
-def _solved(rows):
+def solved_rows(rows):
     """Rows that mean the same: pairs (place, row), each row with 1 at its place, the others with 0."""
     solved = []
     for row in rows:
@@ -32,7 +32,7 @@ def _solved(rows):
 
 def rank_of(rows):
     """The greatest number of rows none of which is a sum of multiples of the others."""
-    return len(_solved(rows))
+    return len(solved_rows(rows))
 
 
 def _bounds(table):
@@ -46,16 +46,20 @@ def _bounds(table):
     return bounds
 
 
+def just_kept(table, shares):
+    """The rows of the bounds that right shares just keep, without their right sides."""
+    sides = [*shares, *supplies(table, shares)]
+    return [row[:-1] for row, side in zip(_bounds(table), sides) if side == row[-1]]
+
+
 def is_corner(table, shares):
     """Whether right shares are a corner."""
-    sides = [*shares, *supplies(table, shares)]
-    just_kept = [row[:-1] for row, side in zip(_bounds(table), sides) if side == row[-1]]
-    return rank_of(just_kept) == len(table.houses)
+    return rank_of(just_kept(table, shares)) == len(table.houses)
 
 
 def _shares_at(bounds, many):
     """The only shares that just keep some bounds, for so many houses; None if there are none or more."""
-    solved = _solved(bounds)
+    solved = solved_rows(bounds)
     if [place for place, _ in solved] != list(range(many)):
         return None
     return tuple([row[-1] for _, row in solved])

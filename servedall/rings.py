@@ -13,8 +13,9 @@ def _place_fault(table, people, houses):
     return None
 
 
-def _fault(table, value):
-    if not is_pair_of_tuples(value) or len(value[0]) != len(value[1]) or len(value[0]) < 3:
+def names_fault(table, value, least):
+    """Why any value is no pair of as many unlike people as unlike houses, so many at least, or None."""
+    if not is_pair_of_tuples(value) or len(value[0]) != len(value[1]) or len(value[0]) < least:
         return -1
     people, houses = value
     at = unlike_fault(people, table.people)
@@ -23,7 +24,14 @@ def _fault(table, value):
     at = unlike_fault(houses, table.houses)
     if at is not None:
         return (1, at)
-    at = _place_fault(table, people, houses)
+    return None
+
+
+def _fault(table, value):
+    fault = names_fault(table, value, 3)
+    if fault is not None:
+        return fault
+    at = _place_fault(table, value[0], value[1])
     if at is not None:
         return (2, at)
     return None

@@ -1,4 +1,6 @@
-"""Small helpers that all modules share: what single values are, and how they are kept."""
+"""Small helpers that all modules share: what single values are, how they are kept, and what hangs together."""
+
+LETTERS = "abcdefghijklmnopqrstuvwxyz"
 
 
 def is_int(value):
@@ -40,6 +42,25 @@ def kept(value):
 def ascending(things):
     """The ascending tuple of names, or of tuples of names, each once."""
     return tuple(sorted(set(things)))
+
+
+def letter_names(many):
+    """So many names of two letters: aa, ab, .., az, ba, .."""
+    return tuple([LETTERS[at // len(LETTERS)] + LETTERS[at % len(LETTERS)] for at in range(many)])
+
+
+def lots_of(things, links):
+    """The ascending tuples of the things that hang together by links, in the order of their first things."""
+    ordered = ascending(things)
+    firsts = {thing: thing for thing in ordered}
+    for one, other in links:
+        first = min(firsts[one], firsts[other])
+        second = max(firsts[one], firsts[other])
+        firsts = {thing: first if firsts[thing] == second else firsts[thing] for thing in ordered}
+    lots = {}
+    for thing in ordered:
+        lots.setdefault(firsts[thing], []).append(thing)
+    return [tuple(lot) for lot in lots.values()]
 
 
 def name_fault(things):

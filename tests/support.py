@@ -111,6 +111,41 @@ def least_by_hand(table, prices, people):
                 if serves_all(table, houses, people)], default=None)
 
 
+def rings_by_hand(table):
+    """All rings of a table, in all forms."""
+    found = []
+    for many in range(3, min(len(table.people), len(table.houses)) + 1):
+        for houses in itertools.permutations(table.houses, many):
+            by = {p: {h for h in houses if (p, h) in table.pairs} for p in table.people}
+            places = [[p for p in by if by[p] == {houses[at], houses[at - 1]}] for at in range(many)]
+            found += [(people, houses) for people in itertools.product(*places)]
+    return found
+
+
+def ringless_tables(seed, number, most=7):
+    """Tables of neighbours on a line, where there are no rings; each person has a house."""
+    dice = random.Random(seed)
+    for _ in range(number):
+        houses = HOUSES[-dice.randint(1, most):]
+        pairs = []
+        for name in PEOPLE[:dice.randint(0, most)]:
+            first = dice.randrange(len(houses))
+            pairs += [(name, house) for house in houses[first:first + dice.randint(1, 4)]]
+        yield table_of([name for name, _ in pairs], houses, pairs)
+
+
+def even_tables(seed, number, most=7):
+    """Tables in which a person has a house or two, on two sides: where there are even rings alone."""
+    dice = random.Random(seed)
+    for _ in range(number):
+        houses = HOUSES[-dice.randint(2, most):]
+        half = dice.randint(1, len(houses) - 1)
+        pairs = [pair for name in PEOPLE[:dice.randint(0, most)]
+                 for pair in ((name, dice.choice(houses[:half])), (name, dice.choice(houses[half:])))
+                 if dice.random() < 0.95]
+        yield table_of([name for name, _ in pairs], houses, pairs)
+
+
 def is_plain(value):
     """Whether a value has tuples alone where it has sequences, also within."""
     if isinstance(value, tuple):

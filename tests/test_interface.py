@@ -50,6 +50,23 @@ CALLS = {
     "branches": """check_branches(table, prices, opening, value) branch_paper(table, prices) leaves_of(tree)
         depth_of(tree)""",
     "apart": "dot_table(size) ring_table(size) distance(table, prices, price)",
+    "changing": "least_cost(table, prices) cost_line(table, prices, house)",
+    "loops": """need_loop(table, value) is_loop(table, value) chords(table, loop) cut(loop, chord) cutting(table, loop)
+        check_cutting(table, loop, value) cut_ends(loop, value)""",
+    "means": "mean_paper(table, shares) check_mean(table, shares, value)",
+    "needed": """with_house(table, prices, house) without_house(table, prices, house) useful_houses(table, prices)
+        needed_houses(table, prices) dearest(table, prices, house)""",
+    "paying": """headroom(table, prices, payments, person) paid_more(table, prices, payments, person)
+        paid_in_turn(table, prices, people) wholly_paid(table, prices, payments) is_stuck(table, prices, payments)""",
+    "passes": """pass_by(table, prices, order) one_pass(table, prices) lead_of(table, prices, order, person)
+        order_left(order, people, houses) ring_paper(table) is_straight_paper(table, value)""",
+    "pieces": "together_with(table, person) pieces(table) beside(one, other)",
+    "quick": """harmonic(number) quick_rows(table, prices) quick_opening(table, prices)
+        quick_payments(table, prices)""",
+    "seats": """need_seats(roads, value) is_seats(roads, value) road_table(roads, people, houses)
+        nearest(roads, houses, place) districts(roads, houses)""",
+    "middles": """sum_from(roads, people, place) farthest_from(roads, people, place) middles(roads, people)
+        centres(roads, people) branch_counts(roads, people, place)""",
     "errors": """InvalidFraction(at) InvalidTable(at) InvalidPrices(at) InvalidOpening(at) InvalidPayments(at)
         InvalidRing(at) InvalidRoads(at) InvalidText(at) InvalidSize(word) Refused(word) NoName(name)""",
 }

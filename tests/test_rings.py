@@ -7,23 +7,11 @@ import unittest
 from servedall import rings as r
 from servedall.errors import InvalidRing
 from servedall.tables import Table, left, table_of, turned
-from support import ANY, check_call, raised, random_table
+from support import ANY, check_call, raised, random_table, rings_by_hand
 
 TRIPLE = table_of("abc", "xyz", [("a", "x"), ("a", "y"), ("b", "y"), ("b", "z"), ("c", "x"), ("c", "z")])
 MORE = table_of("abc", "xyz", TRIPLE.pairs + (("a", "z"),))
 ROUND = (("a", "b", "c"), ("y", "z", "x"))
-
-
-def rings_by_hand(table):
-    """All rings of a table, in all forms."""
-    found = []
-    for many in range(3, min(len(table.people), len(table.houses)) + 1):
-        for people in itertools.permutations(table.people, many):
-            for houses in itertools.permutations(table.houses, many):
-                if all({h for h in houses if (p, h) in table.pairs} == {houses[at], houses[at - 1]}
-                       for at, p in enumerate(people)):
-                    found.append((people, houses))
-    return found
 
 
 class RingTest(unittest.TestCase):

@@ -1,0 +1,138 @@
+"""The examples of the document, chapter by chapter, as they stand there."""
+
+import doctest
+import unittest
+
+CHAPTERS = {
+    "tables": """
+    >>> from servedall.tables import grid, left, most_houses, served_by, table_of, turned, unserved
+    >>> town = table_of(("ann", "bob", "cy"), ("x", "y"), (("bob", "y"), ("ann", "x"), ("ann", "y")))
+    >>> served_by(town, "ann"), unserved(town), grid(town), most_houses(town)
+    (('x', 'y'), ('cy',), ((1, 1), (0, 1), (0, 0)), 2)
+    >>> left(town, ("ann", "bob"), ("x",)).pairs, turned(town).pairs
+    ((('ann', 'x'),), (('x', 'ann'), ('y', 'ann'), ('y', 'bob')))
+
+    >>> from servedall.pieces import pieces, together_with
+    >>> from servedall.tabletext import read_table, table_text
+    >>> len(pieces(town)), together_with(town, "bob"), table_text(town)
+    (2, (('ann', 'bob'), ('x', 'y')), 'houses x y\\nann x y\\nbob y\\ncy')
+    >>> read_table("houses\\ncy") == left(town, ("cy",), ())
+    True
+    """,
+    "prices": """
+    >>> from servedall.openings import check_meet, gap, gap_parts, least_openings, least_price
+    >>> from servedall.tables import table_of
+    >>> town = table_of(("p", "q", "r"), ("x", "y", "z"), (("p", "x"), ("p", "z"), ("q", "x"), ("q", "y"), ("r", "y"), ("r", "z")))
+    >>> pays = ((1, 1), (3, 2), (1, 2))
+    >>> gap(town, (3, 2, 4), ("x", "y"), pays), gap_parts(town, (3, 2, 4), ("x", "y"), pays)
+    ((2, 1), (((1, 2), (0, 1)), ((0, 1), (3, 2), (0, 1))))
+    >>> least_price(town, (3, 2, 4)), least_openings(town, (3, 2, 4)), check_meet(town, (3, 2, 4), ("x", "y"), pays)
+    (5, (('x', 'y'),), False)
+
+    >>> from servedall.needed import dearest, needed_houses, useful_houses
+    >>> from servedall.paying import is_stuck, paid_in_turn, wholly_paid
+    >>> useful_houses(town, (3, 2, 4)), needed_houses(town, (3, 2, 4)), dearest(town, (3, 2, 4), "z")
+    (('x', 'y'), ('x', 'y'), 3)
+    >>> pays = paid_in_turn(town, (3, 2, 4), ("r", "p", "q"))
+    >>> pays, wholly_paid(town, (3, 2, 4), pays), is_stuck(town, (3, 2, 4), pays)
+    (((2, 1), (0, 1), (2, 1)), ('y', 'z'), True)
+    """,
+    "loops": """
+    >>> from servedall.loops import chords, cut, cutting
+    >>> from servedall.rings import least_form, turned_ring
+    >>> from servedall.tables import table_of
+    >>> ring = table_of(tuple("abc"), tuple("xyz"), (("a", "x"), ("a", "y"), ("b", "y"), ("b", "z"), ("c", "x"), ("c", "z")))
+    >>> more = table_of(tuple("abc"), tuple("xyz"), ring.pairs + (("a", "z"),))
+    >>> turned_ring((("a", "b", "c"), ("y", "z", "x")))
+    (('y', 'z', 'x'), ('b', 'c', 'a'))
+    >>> loop = (("a", "b", "c"), ("y", "z", "x"))
+    >>> chords(more, loop), cut(loop, (0, 1))
+    (((0, 1),), ((('a', 'b'), ('y', 'z')), (('c', 'a'), ('x', 'z'))))
+    >>> cutting(more, loop)
+    ('cut', (0, 1), ('whole',), ('whole',))
+    """,
+    "shares": """
+    >>> from servedall.lines import first_lines, gain_at, hold, turned_on, values_of
+    >>> from servedall.shares import share_gaps, is_shares, supplies
+    >>> from servedall.tables import table_of
+    >>> ring = table_of(("a", "b", "c"), ("x", "y", "z"), (("a", "x"), ("a", "y"), ("b", "y"), ("b", "z"), ("c", "x"), ("c", "z")))
+    >>> lines = turned_on(first_lines(ring, (1, 1, 1)), 0, 0)
+    >>> lines.basis, values_of(lines), lines.last[-1], hold(lines, ((1, 1),) + ((0, 1),) * 4 + ((1, 1),))
+    ((0, 4, 5), ((1, 1), (0, 1), (0, 1), (0, 1), (0, 1), (1, 1)), (1, 1), True)
+    >>> half = ((1, 2),) * 3
+    >>> is_shares(ring, half), share_gaps(ring, (1, 1, 2), half, half)
+    (True, (((0, 1), (0, 1), (1, 2)), ((0, 1), (0, 1), (0, 1))))
+
+    >>> from servedall.settling import least_shares, settle_steps
+    >>> least_shares(ring, (1, 1, 1)), settle_steps(ring, (1, 1, 1))[-1]
+    ((((1, 2), (1, 2), (1, 2)), ((1, 2), (1, 2), (1, 2))), (0, 1, 2))
+
+    >>> from servedall.changing import cost_line
+    >>> from servedall.corners import all_corners
+    >>> from servedall.means import check_mean
+    >>> len(all_corners(ring)), all_corners(ring)[3], cost_line(ring, (9, 1, 1), "x")
+    (4, ((1, 2), (1, 2), (1, 2)), (((0, 1), (1, 1), (1, 2)), ((2, 1), (2, 1), (0, 1))))
+    >>> check_mean(ring, ((1, 1), (1, 1), (1, 1)), (((1, 1), half),))
+    True
+    """,
+    "passes": """
+    >>> from servedall.orders import bent_corner, is_sorted, worth_of
+    >>> from servedall.passes import lead_of, pass_by, ring_paper
+    >>> from servedall.tables import table_of
+    >>> row = table_of(["a", "b", "c"], ["h", "i", "j"], [("a", "h"), ("a", "i"), ("b", "i"), ("b", "j"), ("c", "j")])
+    >>> order = (("a", "b", "c"), ("h", "i", "j"))
+    >>> pass_by(row, (2, 3, 2), order), lead_of(row, (2, 3, 2), order, "b")
+    ((('h', 'j'), ((2, 1), (1, 1), (1, 1))), ('i', 'j'))
+    >>> worth_of(row, order), is_sorted(row, order), bent_corner(row, order)
+    ((1, 1, 0, 0, 1, 0, 1, 0, 1), False, None)
+    >>> ring = table_of(["a", "b", "c"], ["h", "i", "j"], [("a", "h"), ("a", "i"), ("b", "i"), ("b", "j"), ("c", "h"), ("c", "j")])
+    >>> bent_corner(ring, order), is_sorted(ring, order), ring_paper(ring)[0]
+    (('a', 'c', 'h', 'i'), False, 'ring')
+    """,
+    "roads": """
+    >>> from servedall.heights import road_order
+    >>> from servedall.roads import branches, meeting, roads_of, way_places
+    >>> from servedall.seats import districts, road_table
+    >>> land = roads_of(("a", "b", "c", "d"), (("b", "a", 2), ("b", "c", 3), ("b", "d", 4)))
+    >>> way_places(land, "a", "d"), meeting(land, "a", "c", "d"), branches(land, "b")
+    (('a', 'b', 'd'), 'b', (('a', ('a',)), ('c', ('c',)), ('d', ('d',))))
+    >>> folk, shops = (("p", "a", 0), ("q", "c", 1), ("r", "d", 0)), (("x", "b", 2), ("y", "d", 6))
+    >>> road_table(land, folk, shops).pairs, districts(land, shops)
+    ((('p', 'x'), ('p', 'y'), ('q', 'x'), ('q', 'y'), ('r', 'y')), (('x', ('a', 'b', 'c')), ('y', ('d',))))
+    >>> road_order(land, folk, shops, "a")
+    (('r', 'q', 'p'), ('x', 'y'))
+
+    >>> from servedall.middles import branch_counts, centres, middles
+    >>> middles(land, folk), centres(land, folk), branch_counts(land, folk, "a")
+    (('b',), ('b',), (('b', 2),))
+    """,
+    "bounds": """
+    >>> from servedall.apart import distance, dot_table, ring_table
+    >>> from servedall.quick import quick_opening, quick_payments
+    >>> five = ring_table(5)
+    >>> quick_opening(five, (1, 1, 1, 1, 1)), quick_payments(five, (1, 1, 1, 1, 1))[4]
+    (('a', 'c', 'd'), (2, 3))
+
+    >>> from servedall.branches import branch_paper, check_branches
+    >>> from servedall.tables import table_of
+    >>> distance(five, (1, 1, 1, 1, 1), 3), check_branches(five, (1,) * 5, ("a", "c", "d"), ("enough", ((1, 2),) * 5))
+    ((6, 5), True)
+    >>> opening, tree = branch_paper(five, (1, 1, 1, 1, 1))
+    >>> len(opening), check_branches(five, (1,) * 5, opening, tree), len(dot_table(2).pairs)
+    (3, True, 6)
+    """,
+}
+
+
+class ExamplesTest(unittest.TestCase):
+
+    def test_chapters(self):
+        for name, text in CHAPTERS.items():
+            told = []
+            test = doctest.DocTestParser().get_doctest(text, {}, name, None, 0)
+            failed, tried = doctest.DocTestRunner(verbose=False).run(test, out=told.append)
+            self.assertEqual((failed, tried > 0), (0, True), "".join(told))
+
+
+if __name__ == "__main__":
+    unittest.main()
