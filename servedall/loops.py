@@ -1,25 +1,17 @@
 """Loops: rounds of people and houses that may have short cuts, and how they are cut into rings."""
 
 from servedall.errors import InvalidRing
-from servedall.rings import names_fault
+from servedall.rings import round_fault
 from servedall.values import is_tuple_of, number_fault
 
 
-def _place_fault(table, people, houses):
-    for at, person in enumerate(people):
-        if (person, houses[at]) not in table.pairs or (person, houses[at - 1]) not in table.pairs:
-            return at
-    return None
+def _stands(table, person, houses, at):
+    """Whether the house at a place and the one before it serve a person."""
+    return (person, houses[at]) in table.pairs and (person, houses[at - 1]) in table.pairs
 
 
 def _fault(table, value):
-    fault = names_fault(table, value, 2)
-    if fault is not None:
-        return fault
-    at = _place_fault(table, value[0], value[1])
-    if at is not None:
-        return (2, at)
-    return None
+    return round_fault(table, value, 2, _stands)
 
 
 def need_loop(table, value):

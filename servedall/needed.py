@@ -33,9 +33,8 @@ def useful_houses(table, prices):
 
 def needed_houses(table, prices):
     """The houses that are in each opening of the least price."""
+    # Without an opening there is none without a house either: so no house is told then.
     least = least_price(table, prices)
-    if least is None:
-        return ()
     return tuple([house for house in table.houses if without_house(table, prices, house) != least])
 
 

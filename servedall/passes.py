@@ -23,7 +23,6 @@ def _kept_of(table, payments, houses):
 
 def pass_by(table, prices, order):
     """The houses that one pass keeps, and the payments."""
-    need_served(table)
     people, houses = order
     payments = paid_in_turn(table, prices, people)
     paid = wholly_paid(table, prices, payments)

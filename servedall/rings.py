@@ -5,16 +5,8 @@ from servedall.tables import left
 from servedall.values import is_pair_of_tuples, unlike_fault
 
 
-def _place_fault(table, people, houses):
-    for at, person in enumerate(people):
-        by = [house for house in houses if (person, house) in table.pairs]
-        if len(by) != 2 or houses[at] not in by or houses[at - 1] not in by:
-            return at
-    return None
-
-
-def names_fault(table, value, least):
-    """Why any value is no pair of as many unlike people as unlike houses, so many at least, or None."""
+def round_fault(table, value, least, stands):
+    """Why any value is no round of so many people and houses at least, where each person stands; or None."""
     if not is_pair_of_tuples(value) or len(value[0]) != len(value[1]) or len(value[0]) < least:
         return -1
     people, houses = value
@@ -24,17 +16,20 @@ def names_fault(table, value, least):
     at = unlike_fault(houses, table.houses)
     if at is not None:
         return (1, at)
+    for at, person in enumerate(people):
+        if not stands(table, person, houses, at):
+            return (2, at)
     return None
+
+
+def _stands(table, person, houses, at):
+    """Whether just the house at a place and the one before it serve a person, of all houses of a ring."""
+    by = [house for house in houses if (person, house) in table.pairs]
+    return len(by) == 2 and houses[at] in by and houses[at - 1] in by
 
 
 def _fault(table, value):
-    fault = names_fault(table, value, 3)
-    if fault is not None:
-        return fault
-    at = _place_fault(table, value[0], value[1])
-    if at is not None:
-        return (2, at)
-    return None
+    return round_fault(table, value, 3, _stands)
 
 
 def need_ring(table, value):

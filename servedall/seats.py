@@ -45,8 +45,8 @@ def road_table(roads, people, houses):
 def nearest(roads, houses, place):
     """The name of the house whose way to a place, less its reach, is the least; None if there is no house."""
     ways = dict(zip(roads.places, ways_from(roads, place)))
-    _, name = min([(ways[other] - reach, name) for name, other, reach in houses], default=(0, None))
-    return name
+    _, foremost = min([(ways[other] - reach, name) for name, other, reach in houses], default=(0, None))
+    return foremost
 
 
 def districts(roads, houses):

@@ -7,6 +7,8 @@ from fractions import Fraction
 
 from servedall.errors import InvalidFraction, InvalidText, NoName, ServeError
 from servedall.lines import Lines
+from servedall.middle import Meets
+from servedall.parting import Parts
 from servedall.roads import Roads, roads_of
 from servedall.tables import Table, table_of
 
@@ -20,6 +22,7 @@ ANY = [None, True, False, 0, 1, -1, 10 ** 4000 - 1, -10 ** 59, "", "a", "abcdefg
        ["a"], ("a", "b"), (("a", "b"), ("x", "y")), ((), ()), ((), (), ()), ((1, 2), (1, 2)), (None, None),
        Table((), (), ()), Table(1, None, "x"), Table([], [], []), Table(("a",), ("x",), (("a", "x"),)),
        Roads(("a",), ()), Roads([], []), Lines((), (), ((0, 1),)), InvalidFraction(0), NoName("a"), InvalidText([]),
+       Meets((), ()), Meets([1], None), Parts((), (), (), ()), Parts((("a",), ("x",)), ("a",), ("x",), (1,)),
        (Table((), (), ()), [Roads((), ()), (None, [True])]), DEEP, ("enough", ()), ("lost", "a"),
        ("house", "x", ("enough", ()), ("enough", ())), [("a", "x")], (("a", "x"),), (("a", "b", 1),)]
 
@@ -46,7 +49,8 @@ def tables_of_size(many, houses):
 
 def random_table(dice, many, houses, density, servable=False):
     """A table of so many people and houses, perhaps with a house at least for each person."""
-    names, others = PEOPLE[:many], HOUSES[-houses:] if houses else ""
+    # People and houses may have the same names.
+    names, others = PEOPLE[:many], dice.choice((HOUSES[-houses:] if houses else "", PEOPLE[:houses]))
     pairs = [pair for pair in itertools.product(names, others) if dice.random() < density]
     if servable and houses:
         pairs += [(name, dice.choice(others)) for name in names]
@@ -71,6 +75,17 @@ def random_fractions(dice, many):
     """So many fractions from 0 on."""
     some = [Fraction(dice.randint(0, 6), dice.randint(1, 6)) for _ in range(many)]
     return tuple((one.numerator, one.denominator) for one in some)
+
+
+def right_shares(dice, table, shares):
+    """Right shares: where a person's houses have less than 1, one of them gets what is lacking."""
+    shares = list(shares)
+    for person in table.people:
+        own = [at for at, house in enumerate(table.houses) if (person, house) in table.pairs]
+        lack = 1 - sum(shares[at] for at in own)
+        if lack > 0:
+            shares[dice.choice(own)] += lack
+    return tuple(map(pair_of, shares))
 
 
 def value_of(one):
@@ -156,6 +171,10 @@ def is_plain(value):
         return is_plain((value.places, value.lines))
     if isinstance(value, Lines):
         return is_plain((value.basis, value.rows, value.last))
+    if isinstance(value, Meets):
+        return is_plain((value.opening, value.payments))
+    if isinstance(value, Parts):
+        return is_plain((value.ring, value.people, value.houses, value.prices))
     return isinstance(value, (int, str, type(None)))
 
 

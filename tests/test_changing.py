@@ -71,12 +71,15 @@ class LineTest(unittest.TestCase):
 
     def test_all_kinds(self):
         dice = random.Random(3)
-        most = 0
         for table in some_tables(4, 60, servable=True):
             for prices in (random_prices(dice, table), (1,) * len(table.houses), (0,) * len(table.houses)):
                 for house in table.houses:
-                    most = max(most, len(self.check_line(table, prices, house)))
-        self.assertGreater(most, 2)
+                    self.check_line(table, prices, house)
+
+    def test_three_slopes(self):
+        # First x and z are the cheapest, then a half of each house, then y and z.
+        self.assertEqual(self.check_line(RING, (9, 2, 1), "x"),
+                         (((0, 1), (1, 1), (1, 1)), ((1, 1), (2, 1), (1, 2)), ((3, 1), (3, 1), (0, 1))))
 
     def test_six_and_five(self):
         dice = random.Random(5)

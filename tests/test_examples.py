@@ -41,15 +41,24 @@ CHAPTERS = {
     >>> from servedall.loops import chords, cut, cutting
     >>> from servedall.rings import least_form, turned_ring
     >>> from servedall.tables import table_of
+    >>> from servedall.ties import odd_ring, ties
     >>> ring = table_of(tuple("abc"), tuple("xyz"), (("a", "x"), ("a", "y"), ("b", "y"), ("b", "z"), ("c", "x"), ("c", "z")))
     >>> more = table_of(tuple("abc"), tuple("xyz"), ring.pairs + (("a", "z"),))
-    >>> turned_ring((("a", "b", "c"), ("y", "z", "x")))
-    (('y', 'z', 'x'), ('b', 'c', 'a'))
+    >>> least_form(odd_ring(ring)), odd_ring(more), turned_ring((("a", "b", "c"), ("y", "z", "x")))
+    ((('a', 'b', 'c'), ('y', 'z', 'x')), None, (('y', 'z', 'x'), ('b', 'c', 'a')))
+    >>> ties(more, ("x", "y", "z")), ties(more, ("x", "z"))
+    ((('x', 'z', 'c'), ('y', 'z', 'b')), (('x', 'z', 'a'),))
     >>> loop = (("a", "b", "c"), ("y", "z", "x"))
     >>> chords(more, loop), cut(loop, (0, 1))
     (((0, 1),), ((('a', 'b'), ('y', 'z')), (('c', 'a'), ('x', 'z'))))
     >>> cutting(more, loop)
     ('cut', (0, 1), ('whole',), ('whole',))
+
+    >>> from servedall.painting import is_paint, loose_houses, painted_back
+    >>> is_paint(more, ("z",)), is_paint(more, ("y",)), is_paint(ring, ("x", "y")), loose_houses(more, ("x", "y", "z"))
+    (True, False, False, ('x', 'y'))
+    >>> painted_back(more, ("x", "y", "z")), painted_back(more, ("y", "x", "z"))
+    (('x', 'y'), ('x', 'y'))
     """,
     "shares": """
     >>> from servedall.lines import first_lines, gain_at, hold, turned_on, values_of
@@ -74,6 +83,26 @@ CHAPTERS = {
     (4, ((1, 2), (1, 2), (1, 2)), (((0, 1), (1, 1), (1, 2)), ((2, 1), (2, 1), (0, 1))))
     >>> check_mean(ring, ((1, 1), (1, 1), (1, 1)), (((1, 1), half),))
     True
+    """,
+    "middle": """
+    >>> from servedall.copies import check_coats, copied, seen
+    >>> from servedall.tables import table_of
+    >>> ring = table_of(("a", "b", "c"), ("x", "y", "z"), (("a", "x"), ("a", "y"), ("b", "y"), ("b", "z"), ("c", "x"), ("c", "z")))
+    >>> path = table_of(("a", "b", "c"), ("x", "y", "z"), (("a", "x"), ("a", "y"), ("b", "y"), ("b", "z"), ("c", "z")))
+    >>> copied(path, (0, 1, 2))[1], copied(path, (1, 0, 1))[0].pairs
+    (('y', 'z', 'z'), (('a', 'aa'), ('b', 'ab'), ('c', 'ab')))
+    >>> seen(path, (0, 1, 0)), check_coats(ring, 2, (0, 1, 0))
+    ((2, 2, 1), False)
+
+    >>> from servedall.dealing import check_deal
+    >>> check_deal(path, ((1, 2), (1, 2), (1, 1)), (("y", "z"), ("x", "z"))), check_deal(ring, ((1, 2),) * 3, (("x", "y"), ("y", "z")))
+    (True, False)
+
+    >>> from servedall.middle import Meets, best, check_meets, meets
+    >>> meets(path, (2, 3, 4)), meets(ring, (1, 1, 1)), meets(ring, (1, 1, 2))
+    (True, False, True)
+    >>> check_meets(path, (2, 3, 4), Meets(("x", "z"), ((2, 1), (1, 1), (3, 1)))), best(path, (2, 3, 4)).opening
+    (True, ('x', 'z'))
     """,
     "passes": """
     >>> from servedall.orders import bent_corner, is_sorted, worth_of
@@ -105,21 +134,37 @@ CHAPTERS = {
     >>> from servedall.middles import branch_counts, centres, middles
     >>> middles(land, folk), centres(land, folk), branch_counts(land, folk, "a")
     (('b',), ('b',), (('b', 2),))
+    >>> from servedall.placing import placing
+    >>> from servedall.spread import check_spread, spread
+    >>> spread(land, folk, ("a", "b", "d"), 2)[:2], check_spread(land, folk, ("a", "b", "d"), 2, (2, ("b", "d"), ("q",)))
+    ((2, ('b', 'd')), True)
+    >>> from servedall.tables import table_of
+    >>> placing(land, folk, table_of(("p", "q", "r"), ("x",), (("p", "x"), ("r", "x"))))[:2]
+    ('lost', 'x')
     """,
     "bounds": """
     >>> from servedall.apart import distance, dot_table, ring_table
     >>> from servedall.quick import quick_opening, quick_payments
+    >>> from servedall.thinning import by_shares, raised_opening
     >>> five = ring_table(5)
     >>> quick_opening(five, (1, 1, 1, 1, 1)), quick_payments(five, (1, 1, 1, 1, 1))[4]
     (('a', 'c', 'd'), (2, 3))
+    >>> raised_opening(five, (1, 1, 1, 1, 1)), by_shares(five, ((1, 2),) * 5)
+    (('a', 'c', 'e'), ('a', 'b', 'c', 'd', 'e'))
 
     >>> from servedall.branches import branch_paper, check_branches
+    >>> from servedall.shrinking import shrink_all, shrinks, shrunk
     >>> from servedall.tables import table_of
     >>> distance(five, (1, 1, 1, 1, 1), 3), check_branches(five, (1,) * 5, ("a", "c", "d"), ("enough", ((1, 2),) * 5))
     ((6, 5), True)
     >>> opening, tree = branch_paper(five, (1, 1, 1, 1, 1))
     >>> len(opening), check_branches(five, (1,) * 5, opening, tree), len(dot_table(2).pairs)
     (3, True, 6)
+    >>> lane = table_of(("ann", "bob"), ("x", "y"), (("ann", "x"), ("ann", "y"), ("bob", "y")))
+    >>> shrinks(lane, (2, 2)), shrink_all(lane, (2, 2))
+    ((('forced', 'bob', 'y'), ('house', 'x', 'y'), ('person', 'ann', 'bob')), (('forced', 'bob', 'y'), ('idle', 'x')))
+    >>> shrunk(lane, (2, 2), (("house", "x", "y"),))[1].houses
+    ('y',)
     """,
 }
 

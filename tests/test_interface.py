@@ -67,6 +67,21 @@ CALLS = {
         nearest(roads, houses, place) districts(roads, houses)""",
     "middles": """sum_from(roads, people, place) farthest_from(roads, people, place) middles(roads, people)
         centres(roads, people) branch_counts(roads, people, place)""",
+    "ties": """ties(table, houses) tied_lots(table, houses) tie_ring(table, houses) any_ring(table) odd_ring(table)
+        all_rings(table) is_even(table) is_ringless(table)""",
+    "painting": """is_paint(table, value) painted(table) check_painted(table, value) loose_houses(table, houses)
+        painted_back(table, order)""",
+    "copies": """copied(table, copies) seen(table, paints) check_coats(table, many, value) coats(table, many)""",
+    "dealing": """deal(table, shares) check_deal(table, shares, value) mean_of(table, openings)
+        cheapest_of(table, prices, openings)""",
+    "middle": """Meets(opening, payments) whole_payments(table, prices) best(table, prices)
+        check_meets(table, prices, value) meets(table, prices)""",
+    "parting": """Parts(ring, people, houses, prices) verdict(table) check_parts(table, value) gap_of(table, ring)
+        half_payments(table, ring)""",
+    "placing": "placing(roads, people, table) check_placing(roads, people, table, value)",
+    "spread": "spread(roads, people, spots, many) check_spread(roads, people, spots, many, value)",
+    "thinning": "thinned(table, houses) raised_opening(table, prices) by_shares(table, shares)",
+    "shrinking": "shrinks(table, prices) shrunk(table, prices, steps) shrink_all(table, prices)",
     "errors": """InvalidFraction(at) InvalidTable(at) InvalidPrices(at) InvalidOpening(at) InvalidPayments(at)
         InvalidRing(at) InvalidRoads(at) InvalidText(at) InvalidSize(word) Refused(word) NoName(name)""",
 }

@@ -11,7 +11,7 @@ from servedall.means import check_mean, mean_paper
 from servedall.settling import least_shares
 from servedall.shares import is_shares, shares_of
 from servedall.tables import Table, table_of
-from support import ANY, check_call, pair_of, random_table, some_tables, value_of
+from support import ANY, check_call, pair_of, random_table, right_shares, some_tables, value_of
 
 RING = table_of("abc", "xyz", [("a", "x"), ("a", "y"), ("b", "y"), ("b", "z"), ("c", "x"), ("c", "z")])
 ONES, HALF = ((1, 1),) * 3, ((1, 2),) * 3
@@ -39,15 +39,10 @@ def is_mean_by_hand(table, shares, value, all_of_them):
                for at, share in enumerate(shares))
 
 
-def right_shares(dice, table, most=3):
-    """Some right shares: drawn ones, taken as often as the least supply asks for."""
-    shares = [Fraction(dice.choice((0, 0, 1, 1, 2, 3)), dice.randint(1, most)) for _ in table.houses]
-    for person in table.people:
-        own = [at for at, house in enumerate(table.houses) if (person, house) in table.pairs]
-        lack = 1 - sum(shares[at] for at in own)
-        if lack > 0:
-            shares[dice.choice(own)] += lack
-    return tuple(map(pair_of, shares))
+def some_shares(dice, table, most=3):
+    """Some right shares, in parts of ones with small bottoms."""
+    return right_shares(dice, table, [Fraction(dice.choice((0, 0, 1, 1, 2, 3)), dice.randint(1, most))
+                                      for _ in table.houses])
 
 
 class MeanTest(unittest.TestCase):
@@ -69,7 +64,7 @@ class MeanTest(unittest.TestCase):
         for table in some_tables(2, 60, servable=True):
             all_of_them = all_corners(table)
             for _ in range(4):
-                self.check_shares(table, right_shares(dice, table), all_of_them)
+                self.check_shares(table, some_shares(dice, table), all_of_them)
             for corner in all_of_them[:6]:
                 self.assertEqual(self.check_shares(table, corner, all_of_them), (((1, 1), corner),))
 
@@ -86,7 +81,7 @@ class MeanTest(unittest.TestCase):
         dice = random.Random(5)
         for density in (0.2, 0.4, 0.6):
             table = random_table(dice, 8, 8, density, servable=True)
-            self.check_shares(table, right_shares(dice, table, 10 ** 11))
+            self.check_shares(table, some_shares(dice, table, 10 ** 11))
             self.check_shares(table, least_shares(table, tuple(dice.randint(1, 9) for _ in range(8)))[0])
             self.check_shares(table, ((10 ** 11, 1),) * 8)
         self.check_shares(ring_table(7), ((1, 2),) * 7)
@@ -132,7 +127,7 @@ class CheckTest(unittest.TestCase):
         for table in some_tables(7, 60, most=4, servable=True):
             all_of_them = all_corners(table)
             for _ in range(8):
-                shares = right_shares(dice, table)
+                shares = some_shares(dice, table)
                 paper = list(mean_paper(table, shares))
                 at = dice.randrange(len(paper))
                 paper[at] = dice.choice(((dice.choice(((1, 2), (1, 1), (0, 1), paper[at][0])), paper[at][1]),
