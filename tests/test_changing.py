@@ -8,7 +8,9 @@ from servedall.apart import ring_table
 from servedall.changing import cost_line, least_cost
 from servedall.corners import all_corners
 from servedall.errors import NoName, Refused
-from servedall.prices import repriced
+from servedall.prices import repriced, sum_of
+from servedall.settling import least_shares
+from servedall.shares import cost_of
 from servedall.tables import Table, table_of
 from support import ANY, check_call, pair_of, raised, random_prices, random_table, some_tables, value_of
 
@@ -35,6 +37,15 @@ class LeastTest(unittest.TestCase):
             both = self.cost(table, tuple(one + other for one, other in zip(prices, others)))
             self.assertGreaterEqual(both, cost + self.cost(table, others))
             self.assertEqual(self.cost(table, tuple(3 * price for price in prices)), 3 * cost)
+
+    def test_eight(self):
+        dice = random.Random(6)
+        for density in (0.3, 0.6):
+            table = random_table(dice, 8, 8, density, servable=True)
+            prices = tuple(dice.randint(0, 10 ** 6) for _ in range(8))
+            shares, payments = least_shares(table, prices)
+            self.assertEqual(least_cost(table, prices), cost_of(prices, shares))
+            self.assertEqual(least_cost(table, prices), sum_of(payments))
 
     def test_rings(self):
         for size in range(3, 9):

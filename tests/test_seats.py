@@ -78,6 +78,17 @@ class TableTest(unittest.TestCase):
             self.assertEqual(s.road_table(roads, houses, people), turned(table))
             self.assertTrue(is_straight(table, road_order(roads, people, houses, roads.places[0])))
 
+    def test_fourteen(self):
+        dice = random.Random(3)
+        roads = random_roads(dice, 14, most=10 ** 6)
+        people = random_seats(dice, roads, "abcdefghijkl", most=10 ** 6)
+        houses = random_seats(dice, roads, "mnopqrstuvwx", most=10 ** 6)
+        table = s.road_table(roads, people, houses)
+        self.assertEqual(set(table.pairs), {(p[0], h[0]) for p in people for h in houses
+                                            if way(roads, p[1], h[1]) <= p[2] + h[2]})
+        self.assertEqual(sorted(place for _, places in s.districts(roads, houses) for place in places),
+                         list(roads.places))
+
     def test_edges(self):
         self.assertEqual(s.road_table(DOT, (), ()), Table((), (), ()))
         self.assertEqual(s.road_table(LAND, FOLK, ()), Table(("p", "q", "r"), (), ()))
