@@ -26,6 +26,14 @@ def copied(table, copies):
     return (table_of(table.people, names, pairs), owners)
 
 
+def with_own_houses(table):
+    """The table with one more house for each person, that serves them alone; all houses called by letters."""
+    names = letter_names(len(table.houses) + len(table.people))
+    called = dict(zip(table.houses, names))
+    pairs = [(person, called[house]) for person, house in table.pairs]
+    return table_of(table.people, names, pairs + list(zip(table.people, names[len(table.houses):])))
+
+
 def _paints_of(table, paints, person):
     """The paints of all houses of a person."""
     houses = served_by(table, person)

@@ -1,10 +1,9 @@
 """Meets: an opening and right payments of the same sum."""
 
 from servedall.changing import least_cost
-from servedall.fractions import floor_of, whole
-from servedall.openings import check_meet, first_opening, least_price
+from servedall.fractions import whole
+from servedall.openings import cheap_opening, check_meet, least_price
 from servedall.prices import need_prices
-from servedall.settling import least_shares
 from servedall.tables import need_served, served_by, without
 from servedall.ties import need_even
 from servedall.values import kept
@@ -27,7 +26,8 @@ def need_case(table, prices):
     need_served(table)
 
 
-def _need_even_case(table, prices):
+def need_even_case(table, prices):
+    """The same; then refuse a table that has an odd ring."""
     need_case(table, prices)
     need_even(table)
 
@@ -43,25 +43,35 @@ def _greatest_payments(table, prices):
     payments = []
     rest = table
     rest_prices = prices
+    still = least_price(rest, rest_prices)
     for person in table.people:
-        # Rounding down what the first one pays loses nothing: what the others can pay rises by as much.
-        pays = floor_of(least_shares(rest, rest_prices)[1][0])
+        # As somebody pays more and more, the sum of all rises by just as much, as long as least openings
+        # for the others have none of their houses: so paying what the others do not need loses nothing.
+        others = without(rest, (person,), ())
+        pays = still - least_price(others, rest_prices)
         payments.append(whole(pays))
         rest_prices = _lowered(rest, rest_prices, person, pays)
-        rest = without(rest, (person,), ())
+        rest = others
+        still = still - pays
     return tuple(payments)
+
+
+def least_meet(table, prices):
+    """Some opening and right whole payments of its sum, for an even table in which each person has a house."""
+    return (cheap_opening(table, prices), _greatest_payments(table, prices))
 
 
 def whole_payments(table, prices):
     """Some right whole payments of the greatest sum."""
-    _need_even_case(table, prices)
+    need_even_case(table, prices)
     return _greatest_payments(table, prices)
 
 
 def best(table, prices):
     """Some opening and right whole payments of the same sum."""
-    _need_even_case(table, prices)
-    return Meets(first_opening(table, prices), _greatest_payments(table, prices))
+    need_even_case(table, prices)
+    opening, payments = least_meet(table, prices)
+    return Meets(opening, payments)
 
 
 def check_meets(table, prices, value):

@@ -75,18 +75,30 @@ def _lots(table, prices):
             for house, price in zip(table.houses, prices)]
 
 
-def least_for(table, prices, people):
-    """The least price of houses that serve some people; None if one of them has no house."""
+def _cheapest_for(table, prices, people):
+    """The least price of houses that serve some people, and some such houses; None if one of them has no house."""
     marks = _marks(table)
     wanted = sum([marks[person] for person in table.people if person in people])
     # For each lot of people who are still to be served, the least price at which just they are left.
-    costs = {wanted: 0}
-    for _, lot, price in _lots(table, prices):
-        for still, cost in list(costs.items()):
+    ways = {wanted: (0, ())}
+    for house, lot, price in _lots(table, prices):
+        for still, (cost, houses) in list(ways.items()):
             less = still ^ (still & lot)
-            if less not in costs or cost + price < costs[less]:
-                costs[less] = cost + price
-    return costs.get(0)
+            if less not in ways or cost + price < ways[less][0]:
+                ways[less] = (cost + price, (*houses, house))
+    return ways.get(0)
+
+
+def least_for(table, prices, people):
+    """The least price of houses that serve some people; None if one of them has no house."""
+    cheapest = _cheapest_for(table, prices, people)
+    return None if cheapest is None else cheapest[0]
+
+
+def cheap_opening(table, prices):
+    """Some opening of the least price; None if there is none."""
+    cheapest = _cheapest_for(table, prices, table.people)
+    return None if cheapest is None else cheapest[1]
 
 
 def least_price(table, prices):

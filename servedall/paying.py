@@ -24,10 +24,19 @@ def paid_more(table, prices, payments, person):
 
 def paid_in_turn(table, prices, people):
     """The payments that come from 0 if each of some people in turn pays so much more."""
-    payments = tuple([ZERO for _ in table.people])
+    own = {person: [] for person in table.people}
+    for person, house in table.pairs:
+        own[person].append(house)
+    spare = {house: whole(price) for house, price in zip(table.houses, prices)}
+    pays = {person: ZERO for person in table.people}
     for person in people:
-        payments = paid_more(table, prices, payments, person)
-    return payments
+        if not own[person]:
+            raise Refused("unserved")
+        room = least_of([spare[house] for house in own[person]])
+        pays[person] = plus(pays[person], room)
+        for house in own[person]:
+            spare[house] = minus(spare[house], room)
+    return tuple([pays[person] for person in table.people])
 
 
 def wholly_paid(table, prices, payments):

@@ -52,12 +52,24 @@ def spares(table, prices, payments):
                   for house, price in zip(table.houses, prices)])
 
 
-def _payments_fault(table, prices, value):
+def _pays_fault(table, value):
     if not is_tuple_of(value, len(table.people)):
         return -1
     for at, pays in enumerate(value):
         if not is_from_zero(pays):
             return at
+    return None
+
+
+def are_pays(table, value):
+    """Whether any value is what people pay: fractions from 0 on, one for each."""
+    return _pays_fault(table, value) is None
+
+
+def _payments_fault(table, prices, value):
+    at = _pays_fault(table, value)
+    if at is not None:
+        return at
     for at, spare in enumerate(spares(table, prices, value)):
         if spare[0] < 0:
             return len(table.people) + at

@@ -30,6 +30,36 @@ def is_pair_of_tuples(value):
     return is_tuple_of(value, 2) and isinstance(value[0], tuple) and isinstance(value[1], tuple)
 
 
+def is_worded(value):
+    """Whether any value is a tuple that begins with a string."""
+    return isinstance(value, tuple) and len(value) > 0 and isinstance(value[0], str)
+
+
+def _are_unlike_names(value):
+    if not isinstance(value, tuple) or not all([is_name(name) for name in value]):
+        return False
+    return len(set(value)) == len(value)
+
+
+def _is_of_kind(thing, kind):
+    if kind == "name":
+        return is_name(thing)
+    if kind == "names":
+        return _are_unlike_names(thing)
+    if kind == "number":
+        return is_number(thing)
+    if kind == "length":
+        return is_number(thing) and thing > 0
+    if kind == "side":
+        return thing in ("person", "house")
+    return isinstance(thing, bool)
+
+
+def are_of_kinds(things, kinds):
+    """Whether a tuple of any values has one of each kind: name, names, number, length, side, flag."""
+    return len(things) == len(kinds) and all([_is_of_kind(thing, kind) for thing, kind in zip(things, kinds)])
+
+
 def kept(value):
     """Any value, with lists copied, so that a later change of one does not show."""
     if isinstance(value, list):
@@ -42,6 +72,14 @@ def kept(value):
 def ascending(things):
     """The ascending tuple of names, or of tuples of names, each once."""
     return tuple(sorted(set(things)))
+
+
+def sublots(things):
+    """All tuples of some of these things, in their order; each stands behind those of some of its own things."""
+    found = [()]
+    for thing in things:
+        found = found + [(*lot, thing) for lot in found]
+    return found
 
 
 def letter_names(many):

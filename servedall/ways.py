@@ -1,10 +1,11 @@
 """Trips: what it costs each person to come to each house."""
 
 from servedall.errors import InvalidSize
-from servedall.values import is_number, is_tuple_of, number_fault
+from servedall.values import is_number, is_tuple_of, number_fault, sublots
 
 
-def _is_trips(value):
+def is_trips(value):
+    """Whether any value is trips."""
     if not isinstance(value, tuple) or not value or not isinstance(value[0], tuple) or not value[0]:
         return False
     return all([is_tuple_of(row, len(value[0])) and number_fault(row) is None for row in value])
@@ -12,7 +13,7 @@ def _is_trips(value):
 
 def need_trips(value):
     """Raise an error for what are no trips."""
-    if not _is_trips(value):
+    if not is_trips(value):
         raise InvalidSize("trips")
 
 
@@ -32,17 +33,10 @@ def all_in(trips, prices, opening):
     return paid + sum([row[house] for row, house in zip(trips, nearest_open(trips, opening))])
 
 
-def _all_openings(many):
-    """All ascending tuples of numbers below so many, one at least."""
-    found = [()]
-    for house in range(many):
-        found = found + [(*opening, house) for opening in found]
-    return found[1:]
-
-
 def least_all_in(trips, prices):
     """The least all-in price of an opening."""
-    return min([all_in(trips, prices, opening) for opening in _all_openings(len(prices))])
+    openings = sublots(list(range(len(prices))))
+    return min([all_in(trips, prices, opening) for opening in openings if opening])
 
 
 def taken_by(trips, payments, house):

@@ -5,12 +5,18 @@ import itertools
 import random
 from fractions import Fraction
 
+from servedall.desk import Desk
 from servedall.errors import InvalidFraction, InvalidText, NoName, ServeError
+from servedall.fines import Plan
+from servedall.kept import Kept
 from servedall.lines import Lines
 from servedall.middle import Meets
+from servedall.packing import Packed
 from servedall.parting import Parts
 from servedall.roads import Roads, roads_of
+from servedall.roadtown import RoadTown
 from servedall.tables import Table, table_of
+from servedall.town import Town
 
 DEEP = ()
 for _ in range(30):
@@ -24,7 +30,9 @@ ANY = [None, True, False, 0, 1, -1, 10 ** 4000 - 1, -10 ** 59, "", "a", "abcdefg
        Roads(("a",), ()), Roads([], []), Lines((), (), ((0, 1),)), InvalidFraction(0), NoName("a"), InvalidText([]),
        Meets((), ()), Meets([1], None), Parts((), (), (), ()), Parts((("a",), ("x",)), ("a",), ("x",), (1,)),
        (Table((), (), ()), [Roads((), ()), (None, [True])]), DEEP, ("enough", ()), ("lost", "a"),
-       ("house", "x", ("enough", ()), ("enough", ())), [("a", "x")], (("a", "x"),), (("a", "b", 1),)]
+       ("house", "x", ("enough", ()), ("enough", ())), [("a", "x")], (("a", "x"),), (("a", "b", 1),),
+       Plan((), (), ()), Plan([1], None, "x"), Packed((), ()), Packed(None, [(1, 2)]), Town(), Desk(), RoadTown("a"),
+       Kept(Table((), (), ()), ()), "undo now", ("undo",), ("batch", ()), ["undo"], ("meet", (Table((), (), ()), ()), None)]
 
 PEOPLE = "abcdefghijklmnop"
 HOUSES = "klmnopqrstuvwxyz"
@@ -175,6 +183,10 @@ def is_plain(value):
         return is_plain((value.opening, value.payments))
     if isinstance(value, Parts):
         return is_plain((value.ring, value.people, value.houses, value.prices))
+    if isinstance(value, Plan):
+        return is_plain((value.opening, value.unserved, value.payments))
+    if isinstance(value, Packed):
+        return is_plain((value.lot, value.cover))
     return isinstance(value, (int, str, type(None)))
 
 

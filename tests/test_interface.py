@@ -82,9 +82,57 @@ CALLS = {
     "spread": "spread(roads, people, spots, many) check_spread(roads, people, spots, many, value)",
     "thinning": "thinned(table, houses) raised_opening(table, prices) by_shares(table, shares)",
     "shrinking": "shrinks(table, prices) shrunk(table, prices, steps) shrink_all(table, prices)",
+    "kept": "Kept(table, prices)",
+    "coming": """rise_for(table, prices, houses) worth(table, prices, people) steady_opening(table, prices, opening)
+        steady_payments(table, prices, payments)""",
+    "evenness": "odd_lots(table) even_paper(table) check_even(table, value) unpainted_lots(table)",
+    "town": "Town() kind_of(table) both_of(table, prices, kind)",
+    "commands": "call_line(call) read_call(value)",
+    "desk": "Desk() run_lines(lines)",
+    "fines": """Plan(opening, unserved, payments) plan_price(table, prices, fines, houses) best_plan(table, prices, fines)
+        check_plan(table, prices, fines, value) least_plan_price(table, prices, fines) parting_fines(table)
+        check_parting(table, ring, prices, fines) ring_payments(table, ring)""",
+    "facts": "facts_of(sheet) all_facts(facts) told_by(facts, word, question)",
+    "groups": """objection(table, prices, payments) check_objection(table, prices, payments, value)
+        is_content(table, prices, payments) can_share(table, prices) shared(table, prices) lacking(table, prices)
+        spans(table, prices) within_spans(table, prices, payments)""",
+    "packing": """Packed(lot, cover) is_apart(table, value) apart_lots(table) greatest_worth(table, worths)
+        is_cover(table, worths, value) gap_rows(table, worths, lot, cover) check_packed(table, worths, value)
+        slack_table(table, worths) packed(table, worths)""",
+    "once": """is_once(table, value) all_once(table) check_tilt(table, value) are_dues(table, prices, value)
+        check_once(table, prices, once, dues) once_or_tilt(table) least_once(table, prices)""",
+    "sheets": "sheet_holds(value)",
+    "audit": "audit(record)",
+    "swaps": """check_swap(table, lot, value) swapped(lot, swap) find_swap(table, lot) most_apart(table)
+        meeting_people(table, lot)""",
+    "pairs": "never_together(table, value) meet_all(table, value) sides_or_ring(table) four_numbers(table)",
+    "townruns": "run(calls) whole_paper(table, prices) check_whole_paper(table, prices, value)",
+    "turning": "turn_deeds(table, prices, other, costs)",
+    "roadtown": "RoadTown(place)",
+    "wayrows": """way_table(trips, prices) least_ways(trips) forth_opening(trips, opening) back_opening(trips, opening)
+        back_payments(trips, payments)""",
+    "waypass": """best_ways(trips, prices) trips_on(roads, people, weights, houses)
+        best_on(roads, people, weights, houses, prices)""",
     "errors": """InvalidFraction(at) InvalidTable(at) InvalidPrices(at) InvalidOpening(at) InvalidPayments(at)
         InvalidRing(at) InvalidRoads(at) InvalidText(at) InvalidSize(word) Refused(word) NoName(name)""",
 }
+
+METHODS = {
+    "kept.Kept": "come(person, houses) leave(person) build(house, people, price) close(house) set_price(house, price)",
+    "town.Town": """table_now() prices_now() unserved_now() calls() depth() kind_now() both_now() opening_now() payments_now()
+        gap_now() do(call) twin()""",
+    "desk.Desk": "say(line) said() record()",
+    "roadtown.RoadTown": """do(call) roads_now() people_now() houses_now() table_now() prices_now() town_now() order_now()
+        both_now() sheets_now()""",
+}
+
+
+def calls_of(text):
+    """Each word and its arguments."""
+    for call in text.replace(")", ")\n").split("\n"):
+        if call.strip():
+            word, arguments = call.strip().rstrip(")").split("(")
+            yield word, arguments.split(", ") if arguments else []
 
 
 class InterfaceTest(unittest.TestCase):
@@ -95,12 +143,22 @@ class InterfaceTest(unittest.TestCase):
             with open(os.path.join(FOLDER, name + ".py"), encoding="utf-8") as file:
                 defined = [node.name for node in ast.parse(file.read()).body
                            if isinstance(node, (ast.FunctionDef, ast.ClassDef))]
-            for call in calls.replace(")", ")\n").split("\n"):
-                if call.strip():
-                    word, arguments = call.strip().rstrip(")").split("(")
-                    self.assertIn(word, defined, name)
-                    told = list(inspect.signature(getattr(module, word)).parameters)
-                    self.assertEqual(told, arguments.split(", "), call)
+            for word, arguments in calls_of(calls):
+                self.assertIn(word, defined, name)
+                self.assertEqual(list(inspect.signature(getattr(module, word)).parameters), arguments, word)
+
+    def test_methods(self):
+        for place, calls in METHODS.items():
+            name, word = place.split(".")
+            own = vars(getattr(importlib.import_module("servedall." + name), word))
+            for method, arguments in calls_of(calls):
+                self.assertIn(method, own, place)
+                self.assertEqual(list(inspect.signature(own[method]).parameters), ["self"] + arguments, method)
+
+    def test_all_of_the_interface(self):
+        # The document lists 59 files and 296 names: ZERO, ONE, ServeError and InvalidCommand take no arguments.
+        self.assertEqual(len(CALLS), 59)
+        self.assertEqual(sum(len(list(calls_of(calls))) for calls in CALLS.values()), 292)
 
     def test_errors_without_arguments(self):
         errors = importlib.import_module("servedall.errors")

@@ -84,6 +84,8 @@ def is_call(node, *names):
 
 
 SOURCES = [Source(name) for name in sorted(os.listdir(FOLDER)) if name.endswith(".py")]
+OWN_METHODS = {part.name for source in SOURCES for node in source.nodes(ast.ClassDef) for part in node.body
+               if isinstance(part, ast.FunctionDef)}
 ATTRIBUTES = {node.attr for source in SOURCES for node in source.nodes(ast.Attribute)
               if isinstance(node.ctx, ast.Store)}
 
@@ -149,6 +151,16 @@ class LanguageTest(unittest.TestCase):
             for name in free:
                 del to[name]
 
+    def check_plain(self, value, defined, where):
+        """A plain value, or a dict of such and of functions that are defined above."""
+        if isinstance(value, ast.Dict):
+            for part in value.keys + [part for part in value.values if not isinstance(part, ast.Name)]:
+                ast.literal_eval(part)
+                self.assertFalse([inner for inner in ast.walk(part) if isinstance(inner, (ast.List, ast.Dict))], where)
+            self.assertLessEqual({part.id for part in value.values if isinstance(part, ast.Name)}, defined, where)
+        else:
+            ast.literal_eval(value)
+
     def test_module_level(self):
         for source in SOURCES:
             seen = set()
@@ -168,7 +180,7 @@ class LanguageTest(unittest.TestCase):
                 seen.add(name)
                 if isinstance(node, ast.Assign):
                     self.assertEqual(len(node.targets), 1, where)
-                    ast.literal_eval(node.value)
+                    self.check_plain(node.value, seen, where)
             self.assertIsNotNone(ast.get_docstring(source.tree), source.name)
 
     def test_names(self):
@@ -190,7 +202,7 @@ class LanguageTest(unittest.TestCase):
         for source, node, where in self.each(ast.Attribute):
             self.assertNotIn(node.attr, NOWHERE | {"args", "sort"}, where)
             if is_call(source.above[node], node.attr) and source.above[node].func is node:
-                self.assertIn(node.attr, METHODS, where)
+                self.assertIn(node.attr, METHODS | OWN_METHODS, where)
             else:
                 self.assertIn(node.attr, ATTRIBUTES, where)
             if isinstance(node.ctx, ast.Store):
@@ -208,6 +220,35 @@ class LanguageTest(unittest.TestCase):
                     self.assertRegex(" ".join(map(ast.unparse, part.body[0].value.values)),
                                      r"^isinstance\(other, \w+\)( self\.(\w+) == other\.\2)+$", where)
                     self.assertEqual(len(part.body), 1, where)
+
+    def test_methods(self):
+        self.assertEqual(OWN_METHODS & (METHODS | CHANGING), set())
+        for source, node, where in self.each(ast.ClassDef):
+            own = [part.name for part in node.body if isinstance(part, ast.FunctionDef)]
+            held = {inner.attr for inner in ast.walk(node) if isinstance(inner, ast.Attribute)
+                    and isinstance(inner.ctx, ast.Store)}
+            self.assertEqual((len(own), held & set(own)), (len(set(own)), set()), where)
+            for part in node.body:
+                if isinstance(part, ast.FunctionDef):
+                    self.assertEqual(part.args.args[0].arg, "self", where)
+
+    def test_stars_in_calls(self):
+        for _, node, where in self.each(ast.Call):
+            for part in [part.value for part in node.args if isinstance(part, ast.Starred)]:
+                self.assertIsInstance(part, (ast.Name, ast.Tuple, ast.List), where)
+            self.assertNotIn(None, [keyword.arg for keyword in node.keywords], where)
+
+    def test_dicts_and_lists_at_module_level_are_only_read(self):
+        for source in SOURCES:
+            held = {node.targets[0].id for node in source.tree.body if isinstance(node, ast.Assign)
+                    and isinstance(node.value, (ast.Dict, ast.List))}
+            for node in source.nodes(ast.Name):
+                if node.id in held and isinstance(node.ctx, ast.Load):
+                    above = source.above[node]
+                    read = (isinstance(above, ast.Subscript) and isinstance(above.ctx, ast.Load)
+                            or isinstance(above, ast.Compare) and above.comparators == [node]
+                            or isinstance(above, ast.Attribute) and above.attr == "get")
+                    self.assertTrue(read, f"{source.name}:{node.lineno}")
 
     def test_calls_of_builtins(self):
         keywords = {"sorted": {"key", "reverse"}, "min": {"key", "default"}, "max": {"key", "default"},
