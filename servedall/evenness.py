@@ -21,10 +21,10 @@ def _number_of(row):
     return sum([one << at for at, one in enumerate(row)])
 
 
-def _is_pair(lot):
-    """Whether the number of a lot has just two bits."""
+def _is_tie(lot):
+    """Whether the number of a lot has two bits, or fewer: one house alone is tied with nothing."""
     more = lot & (lot - 1)
-    return more > 0 and more & (more - 1) == 0
+    return more & (more - 1) == 0
 
 
 def _tied_with(links, houses):
@@ -53,13 +53,13 @@ def _given_back(links, house, paint):
     """The paint of some houses when one more is given back; None if some that are tied with it have it, not all."""
     tied = _tied_with(links, house) ^ house
     if tied & paint == 0:
-        return paint | house if tied > 0 else paint
+        return paint | house
     return paint if tied & paint == tied else None
 
 
 def _paint_of(rows, lot, paints):
     """Some paint of a lot, by those of the lots within it; None if there is none."""
-    links = [row & lot for row in rows if _is_pair(row & lot)]
+    links = [row & lot for row in rows if _is_tie(row & lot)]
     house = _loose_of(links, lot)
     # What was tied with it hangs together without it, too: so of that there is just one paint and its
     # reverse, and if neither goes with the house, no paint does.

@@ -10,8 +10,8 @@ from servedall.values import ascending, is_pair_of_tuples, unlike_fault
 
 
 def _is_way(table, people, houses):
-    """Whether any values are unlike people and, between each two of them, unlike houses that serve both."""
-    if unlike_fault(people, table.people) is not None or unlike_fault(houses, table.houses) is not None:
+    """Whether any values are unlike people and, between each two of them, a house that serves just both."""
+    if unlike_fault(people, table.people) is not None:
         return False
     return all([(people[at], house) in table.pairs and (people[at + 1], house) in table.pairs
                 for at, house in enumerate(houses)])
@@ -48,10 +48,10 @@ def find_swap(table, lot):
     """Some swap of houses apart; None if there is none."""
     need_two_by_two(table)
     left_out = not_served(table, lot)
-    others = [house for house in table.houses if house not in lot]
     ways = [((person,), ()) for person in left_out]
     while ways:
-        longer = [step for way in ways for step in _steps(table, way, others)]
+        # Whoever is served by the lot has come over that house: so it leads to nobody else.
+        longer = [step for way in ways for step in _steps(table, way, table.houses)]
         swaps = [way for way in longer if way[0][-1] in left_out]
         if swaps:
             return swaps[0]

@@ -9,7 +9,7 @@ from servedall.orders import straight_order
 from servedall.passes import one_pass
 from servedall.settling import least_shares
 from servedall.tables import Table, need_served, table_of, unserved
-from servedall.ties import is_ringless, odd_ring
+from servedall.ties import odd_ring
 
 
 def kind_of(table):
@@ -19,12 +19,6 @@ def kind_of(table):
         return ("ringless", order)
     ring = odd_ring(table)
     return ("even", even_paper(table)) if ring is None else ("odd", ring)
-
-
-def _word_of_kind(table):
-    if is_ringless(table):
-        return "ringless"
-    return "even" if odd_ring(table) is None else "odd"
 
 
 def both_of(table, prices, kind):
@@ -126,7 +120,7 @@ class Town:
         """Some opening of the least price, and some right payments of the greatest sum."""
         table, prices = self._now
         need_served(table)
-        return both_of(table, prices, _word_of_kind(table))
+        return both_of(table, prices, kind_of(table)[0])
 
     def opening_now(self):
         """The first one of both."""

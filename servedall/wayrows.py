@@ -39,7 +39,7 @@ def least_ways(trips):
 
 def forth_opening(trips, opening):
     """The opening of the table with these houses, and the further houses of all rows that they do not serve."""
-    houses = ["h" + LETTERS[house] for house in opening]
+    houses = ["h" + LETTERS[at] for at in opening]
     further = ["w" + name for name, number, _, row in _rows_of(trips)
                if number < min([row[house] for house in opening])]
     return tuple(sorted(houses + further))

@@ -154,6 +154,11 @@ class AuditTest(unittest.TestCase):
                 self.assertEqual(audit(record[:at] + ((line, outcome, list(sheets)),) + record[at + 1:]), at)
                 self.assertEqual(audit(record[:at] + ((line, outcome, sheets + (None,)),) + record[at + 1:]), at)
 
+    def test_nothing_is_told_by_no_sheets(self):
+        for line in PAPERS + ("kind",):
+            for answer in (None, True, False, 0, (0, 1), (), "ringless"):
+                self.assertEqual(audit(((line, ("told", answer), ()),)), 0)
+
     def test_half_of_what_is_needed(self):
         # For the gap both the price and the sum are needed; for "even" a ring, and that there is no odd one.
         record = record_of(ODD, "gap", "least", "greatest", "opening", "payments")

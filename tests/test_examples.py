@@ -1,7 +1,10 @@
 """The examples of the document, chapter by chapter, as they stand there."""
 
 import doctest
+import os
 import unittest
+
+README = os.path.join(os.path.dirname(os.path.dirname(os.path.abspath(__file__))), "README.md")
 
 CHAPTERS = {
     "tables": """
@@ -280,12 +283,19 @@ CHAPTERS = {
 
 class ExamplesTest(unittest.TestCase):
 
+    def check(self, name, text):
+        told = []
+        test = doctest.DocTestParser().get_doctest(text, {}, name, None, 0)
+        failed, tried = doctest.DocTestRunner(verbose=False).run(test, out=told.append)
+        self.assertEqual((failed, tried > 0), (0, True), "".join(told))
+
     def test_chapters(self):
         for name, text in CHAPTERS.items():
-            told = []
-            test = doctest.DocTestParser().get_doctest(text, {}, name, None, 0)
-            failed, tried = doctest.DocTestRunner(verbose=False).run(test, out=told.append)
-            self.assertEqual((failed, tried > 0), (0, True), "".join(told))
+            self.check(name, text)
+
+    def test_readme(self):
+        with open(README, encoding="utf-8") as file:
+            self.check("README", file.read())
 
 
 if __name__ == "__main__":

@@ -3,8 +3,18 @@
 import ast
 import importlib
 import inspect
+import itertools
 import os
 import unittest
+
+from servedall.fines import Plan
+from servedall.lines import Lines
+from servedall.middle import Meets
+from servedall.packing import Packed
+from servedall.parting import Parts
+from servedall.roads import Roads
+from servedall.tables import Table
+from support import ANY
 
 FOLDER = os.path.join(os.path.dirname(os.path.dirname(os.path.abspath(__file__))), "servedall")
 CALLS = {
@@ -159,6 +169,22 @@ class InterfaceTest(unittest.TestCase):
         # The document lists 59 files and 296 names: ZERO, ONE, ServeError and InvalidCommand take no arguments.
         self.assertEqual(len(CALLS), 59)
         self.assertEqual(sum(len(list(calls_of(calls))) for calls in CALLS.values()), 292)
+
+    def test_objects_are_not_gone_over(self):
+        objects = [value for value in ANY if type(value).__module__.startswith("servedall.")]
+        self.assertGreater(len(objects), 12)
+        for value in objects:
+            self.assertRaises(TypeError, iter, value)
+            self.assertRaises(TypeError, len, value)
+
+    def test_equal_to_nothing_of_another_class(self):
+        made = [Plan((), (), ()), Packed((), ()), Meets((), ()), Table((), (), ()), Roads((), ()), Lines((), (), ()),
+                Parts((), (), (), ())]
+        for one, other in itertools.permutations(made, 2):
+            self.assertFalse(one == other)
+            self.assertTrue(one != other)
+        for one in made:
+            self.assertFalse(any(one == other for other in ANY if type(other) is not type(one)))
 
     def test_errors_without_arguments(self):
         errors = importlib.import_module("servedall.errors")

@@ -202,6 +202,11 @@ class HoldsTest(unittest.TestCase):
                       ("ways", (((5,),), (0,)), ((0,), (5,))), ("placed", (Roads(("a",), ()), (), none), ()),
                       ("reach", (Roads(("a",), ()), (), ("a",), 1), (0, (), ()))):
             self.assertIs(sheet_holds(sheet), True, sheet)
+        one = Roads(("a",), ())
+        for many in (1, 2, 10 ** 30):
+            self.assertIs(sheet_holds(("reach", (one, (), ("a",), many), (0, (), ()))), True)
+        for many in (0, -1, None, True, (1,)):
+            self.assertIs(sheet_holds(("reach", (one, (), ("a",), many), (0, (), ()))), False)
         for sheet in (("unserved", none, "a"), ("ring", none, ((), ())), ("odd", none, ((), ())), ("tilt", none, ()), ("objection", (none, (), ()), ()),
                       ("ways", ((), ()), ((), ())), ("reach", (Roads(("a",), ()), (), (), 1), (0, (), ())), ("lost", (Roads(("a",), ()), (), none), ("x", ()))):
             self.assertIs(sheet_holds(sheet), False, sheet)

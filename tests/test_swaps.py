@@ -114,6 +114,13 @@ class SwapTest(unittest.TestCase):
             for one in (value, (value, SWAP[1]), (SWAP[0], value), (SWAP[0][:3] + (value,), SWAP[1]), (SWAP[0], SWAP[1][:2] + (value,))):
                 self.assertIs(s.check_swap(ROW, ("y",), one), False)
 
+    def test_wrong_people_at_the_ends(self):
+        table = table_of("abcdef", "xyz", ROW.pairs)
+        self.assertIs(s.check_swap(table, ("y",), SWAP), True)
+        for people in (("a", "b", "c", "e"), ("e", "b", "c", "d"), ("e", "b", "c", "f"), ("a", "c", "b", "d"), ("a", "b", "e", "d")):
+            self.assertIs(s.check_swap(table, ("y",), (people, SWAP[1])), False)
+            self.assertIs(s.check_swap(table, ("y",), (people[::-1], SWAP[1][::-1])), False)
+
     def test_a_ring_is_no_way(self):
         # Back to the first person over an odd number of houses: the same person twice.
         self.assertIs(s.check_swap(RING, ("z",), (("a", "b", "c", "a"), ("y", "z", "x"))), False)

@@ -341,6 +341,9 @@ class BothTest(unittest.TestCase):
         for call in (town.both_now, town.opening_now, town.payments_now, town.gap_now):
             self.assertEqual(raised(call), (Refused, "unserved"))
         self.assertEqual((told(town), town.kind_now()[0]), (before, "ringless"))
+        even = town_of(ring_table(4), (1, 1, 1, 1))
+        even.do(("person", "e", ()))
+        self.assertEqual((raised(even.both_now), raised(even.gap_now), even.kind_now()[0]), ((Refused, "unserved"),) * 2 + ("even",))
         odd = town_of(RING, (1, 1, 1))
         odd.do(("person", "d", ()))
         self.assertEqual((raised(odd.gap_now), odd.kind_now()[0]), ((Refused, "unserved"), "odd"))

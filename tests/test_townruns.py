@@ -126,7 +126,8 @@ class PaperTest(unittest.TestCase):
         for value in (list(good), good[:2], good[:3], good + ((),), ("odd",) + good[1:], ("even",) + good[1:], ("ringless", even) + good[2:],
                       ("ringless", order[::-1]) + good[2:], ("ringless", (("a", "c", "b"), ("z", "y", "x"))) + good[2:], good[:2] + (("x", "y", "z"), pays),
                       good[:2] + (["x", "z"], pays), good[:3] + (list(pays),), good[:3] + (((2, 1), (1, 1), (2, 1)),), good[:3] + (((3, 1), (1, 1), (2, 1)),),
-                      ("Ringless",) + good[1:], (None,) + good[1:], ("odd", order), ("even", even), None):
+                      ("Ringless",) + good[1:], ("Even", even) + good[2:],
+                      ("odd", even) + good[2:], (None, even) + good[2:], (None,) + good[1:], ("odd", order), ("even", even), None):
             self.assertIs(r.check_whole_paper(PATH, prices, value), False, value)
         ring = (("a", "b", "c"), ("y", "z", "x"))
         self.assertIs(r.check_whole_paper(RING, prices, ("odd", ring)), True)
